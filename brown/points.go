@@ -116,8 +116,12 @@ func (w *pair) at(x uint64) (poly, poly) {
 }
 
 // tell goes after Newton.
+//
+// As many images as tell it, if they are good, were asked whether they do. So if there are that
+// many, none was good, nor is another one with their first place: only one with a lower place
+// goes on. (Rows of more images would also have powers that a place may have no room for.)
 func (w *pair) tell(x uint64, image poly) bool {
-	if !w.known.admits(image, upoly.Poly{1}) {
+	if !w.known.admits(image, upoly.Poly{1}) || w.known.many == w.full {
 		return false
 	}
 	all := w.known.all // it is 0 at all points that were told
